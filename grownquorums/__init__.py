@@ -1,0 +1,1 @@
+"""Quorum systems of every order, grown from kinds."""

@@ -1,0 +1,1 @@
+"""Words and numbers, sets of places and families of them."""
