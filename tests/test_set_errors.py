@@ -30,13 +30,10 @@ NO_SETS = NO_PLACES + (
     (("0",),), ("01", "02"), "01 02", (((0,),),), ((10 ** 400,),), ((-1,),), ((0,), (1, 10 ** 400)),
 )
 
-# What is no family, even if its sets were put in order.
-NO_FAMILIES_AT_ALL = NO_SETS + (
+# Sets in order that contain one another, and sets that do not ascend.
+NO_FAMILIES = NO_SETS + (
     ((0,), (0,)), ((0,), (0, 1)), ((0, 1), (0, 1, 2)), ((0,), (1,), (1, 2)), ((0, 1), (1,)), ((0, 1, 2), (1,)),
-    ((0, 1), (0, 2), (0, 2)),
-)
-NO_FAMILIES = NO_FAMILIES_AT_ALL + (
-    ((1,), (0,)), ((0, 2), (0, 1)), ((1, 2), (0,)), ((0, 1), (1, 2), (0, 2)), ((1, 2), (0, 2), (0, 1)),
+    ((0, 1), (0, 2), (0, 2)), ((1,), (0,)), ((0, 2), (0, 1)), ((1, 2), (0,)), ((0, 1), (1, 2), (0, 2)), ((1, 2), (0, 2), (0, 1)),
 )
 
 NO_TURNS = ODD_VALUES + NUMBERS + (
@@ -56,14 +53,13 @@ WRONG = {
     "places": (NO_PLACES + FAMILIES, InvalidSet),
     "sets": (NO_SETS, InvalidSet),
     "family": (NO_FAMILIES, InvalidSet),
-    "any order": (NO_FAMILIES_AT_ALL, InvalidSet),
     "turns": (NO_TURNS, InvalidOperation),
     "text": (NO_TEXTS, ParseError),
 }
 
 GOOD = {
     "width": WIDTH, "places": (0, 2), "sets": ((1,), (0, 1), (1,)), "family": ((0, 1), (0, 2)),
-    "any order": ((0, 2), (1,)), "turns": (2, 0, 1), "text": "01 2",
+    "turns": (2, 0, 1), "text": "01 2",
 }
 
 # The kinds of the parameters of each function, in their order.
@@ -73,7 +69,7 @@ FUNCTIONS = (
     (rest_of, ("width", "places")),
     (blocks_of, ("width", "family")),
     (either, ("width", "family", "family")),
-    (both, ("width", "any order", "any order")),
+    (both, ("width", "family", "family")),
     (placed, ("width", "family", "turns")),
     (completed, ("width", "family")),
     (write_family, ("width", "family")),

@@ -9,7 +9,7 @@ from grownquorums.base.sets import (
     blocks_of, both, completed, either, is_family, is_held, is_set, least_of, placed, read_family, rest_of,
     write_family,
 )
-from grownquorums.errors import InvalidOperation, ParseError
+from grownquorums.errors import InvalidOperation, InvalidSet, ParseError
 from tests import plain
 
 FAMILIES = {width: plain.families(width) for width in plain.WIDTHS}
@@ -34,13 +34,18 @@ def some_pairs(width, seed):
 
 
 class Example(unittest.TestCase):
+    def test_the_call_of_the_example_that_passes_no_family(self):
+        # The document's example passes these sets in this order; its sentences call them no family.
+        with self.assertRaises(InvalidSet):
+            both(3, ((0, 1),), ((1, 2), (0,)))
+
     def test_the_example_of_the_document(self):
         self.assertEqual(
             [blocks_of(3, ((0, 1), (0, 2))), least_of(3, ((0, 1), (1,), (0, 2), (1, 2))),
              is_held(3, ((0, 1), (2,)), (0, 2)), rest_of(4, (1, 3))],
             [((0,), (1, 2)), ((0, 2), (1,)), True, (0, 2)])
         self.assertEqual(
-            [either(3, ((0, 1),), ((1,),)), both(3, ((0, 1),), ((1, 2), (0,))), placed(3, ((0, 1),), (2, 0, 1)),
+            [either(3, ((0, 1),), ((1,),)), both(3, ((0, 1),), ((0,), (1, 2))), placed(3, ((0, 1),), (2, 0, 1)),
              len(completed(2, ((0, 1),)))],
             [((1,),), ((0, 1),), ((0, 2),), 1])
         self.assertEqual(
@@ -176,11 +181,14 @@ class Joined(unittest.TestCase):
                 self.assertEqual(either(width, family, (tuple(range(width)),)), family)
                 self.assertEqual(both(width, family, tuple((place,) for place in range(width))), family)
 
-    def test_both_takes_the_sets_in_any_order(self):
-        for one, other in some_pairs(3, 7):
-            expected = plain.family_of(3, TABLES[3][one] & TABLES[3][other])
-            for first in itertools.permutations(FAMILIES[3][one]):
-                self.assertEqual(both(3, first, FAMILIES[3][other][::-1]), expected)
+    def test_both_refuses_sets_that_do_not_ascend(self):
+        for family in FAMILIES[3]:
+            for row in itertools.permutations(family):
+                if row == family:
+                    continue
+                for pair in ((row, family), (family, row), (row, row)):
+                    self.assertRaises(InvalidSet, both, 3, *pair)
+                    self.assertRaises(InvalidSet, either, 3, *pair)
 
 
 class Placed(unittest.TestCase):

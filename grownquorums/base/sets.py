@@ -27,12 +27,6 @@ def check_family(width, family):
         raise InvalidSet("no family of sets of places")
 
 
-def _check_family_in_any_order(width, sets):
-    check_width(width)
-    if not _are_sets(width, sets) or len(_least(sets)) != len(sets):
-        raise InvalidSet("no sets of places none of which contains another one")
-
-
 def _is_place(width, value):
     return is_integer(value) and 0 <= value < width
 
@@ -142,10 +136,8 @@ def either(width, one, other):
 
 def both(width, one, other):
     """The family of the least sets that contain a set of each of the two families."""
-    # The document's own example passes sets that do not ascend, so here alone the
-    # order of the sets is not judged.
-    _check_family_in_any_order(width, one)
-    _check_family_in_any_order(width, other)
+    check_family(width, one)
+    check_family(width, other)
     return _least([
         places for places in _all_sets(width)
         if _has_least(one, places) and _has_least(other, places)
@@ -180,13 +172,19 @@ def write_family(width, family):
     return " ".join(["".join([str(place) for place in least]) for least in family])
 
 
-def read_family(width, text):
-    """The family with a text."""
+def family_in(width, text):
+    """The family with a text, None if the value is the text of none."""
     check_width(width)
     if not isinstance(text, str):
-        raise ParseError(None)
+        return None
     # A sign that is no figure becomes -1, which is no place.
     family = tuple([tuple([_FIGURES.find(sign) for sign in word]) for word in text.split(" ")])
-    if not is_family(width, family):
+    return family if is_family(width, family) else None
+
+
+def read_family(width, text):
+    """The family with a text."""
+    family = family_in(width, text)
+    if family is None:
         raise ParseError(None)
     return family
