@@ -2,6 +2,8 @@
 
 import ast
 import builtins
+import functools
+import itertools
 import pathlib
 import unittest
 
@@ -26,11 +28,15 @@ BARRED_NAMES = set(
     "register mro elements open input law version_info with_traceback add_note typing enum Enum Flag Generic "
     "Protocol ABC namedtuple abstractmethod dataclass".split())
 
+DOUBLE = set(
+    "__init__ __eq__ __str__ __len__ __iter__ __contains__ __getitem__".split())
+
 BARRED_NODES = (
     ast.AsyncFunctionDef, ast.AsyncFor, ast.AsyncWith, ast.Await, ast.Import, ast.Global, ast.GeneratorExp, ast.Div,
 )
 
 
+@functools.lru_cache(maxsize=None)
 def trees():
     return [(path, ast.parse(path.read_text("utf-8"))) for path in FILES]
 
@@ -41,6 +47,13 @@ def nodes(*kinds):
         for node in ast.walk(tree):
             if isinstance(node, kinds):
                 yield f"{path.name}:{getattr(node, 'lineno', 0)}", node
+
+
+def local_names(function):
+    """The parameters of a function and all names that it assigns."""
+    names = [node.arg for node in ast.walk(function) if isinstance(node, ast.arg)]
+    return names + [
+        node.id for node in ast.walk(function) if isinstance(node, ast.Name) and not isinstance(node.ctx, ast.Load)]
 
 
 def own_names():
@@ -112,13 +125,87 @@ class Language(unittest.TestCase):
         for place, node in nodes(ast.arg):
             self.assertFalse(hasattr(builtins, node.arg), place)
         for place, node in nodes(ast.FunctionDef, ast.ClassDef):
-            self.assertFalse(hasattr(builtins, node.name) and node.name != "__init__", place)
+            self.assertFalse(hasattr(builtins, node.name) and node.name not in DOUBLE, place)
 
     def test_methods(self):
         known = METHODS | own_names() | {"__init__"}
         for place, node in nodes(ast.Call):
             if isinstance(node.func, ast.Attribute):
                 self.assertIn(node.func.attr, known, place)
+
+    def test_double_underscores(self):
+        for place, node in nodes(ast.FunctionDef, ast.ClassDef):
+            if node.name.startswith("__"):
+                self.assertIn(node.name, DOUBLE, place)
+        for place, node in nodes(ast.Name, ast.Attribute):
+            self.assertFalse(getattr(node, "id", getattr(node, "attr", "")).startswith("__"), place)
+
+    def test_classes(self):
+        """Properties, methods and attributes have names of their own."""
+        kinds = {"property": set(), "classmethod": set(), "method": set(), "attribute": set()}
+        for place, node in nodes(ast.ClassDef):
+            methods = {one.name: one for one in node.body if isinstance(one, ast.FunctionDef)}
+            if "__getitem__" in methods:
+                self.assertIn("__iter__", methods, place)
+            for name, one in methods.items():
+                words = [decorator.id for decorator in one.decorator_list]
+                self.assertIn(words, ([], ["property"], ["classmethod"]), place)
+                if name not in DOUBLE:
+                    kinds[words[0] if words else "method"].add(name)
+                if name == "__iter__":
+                    self.assertEqual(len(one.body), 1, place)
+        for place, node in nodes(ast.Attribute):
+            if isinstance(node.ctx, ast.Store):
+                self.assertIsInstance(node.value, ast.Name, place)
+                kinds["attribute"].add(node.attr)
+        for one, other in itertools.combinations(kinds, 2):
+            self.assertFalse(kinds[one] & kinds[other], (one, other))
+        for name in kinds["property"] | kinds["classmethod"]:
+            self.assertFalse(any(hasattr(kind, name) for kind in (str, int, list, dict, tuple, bytes, set)), name)
+
+    def test_generators(self):
+        """A generator's name is its own, and its call is iterated at once, beside names alone."""
+        makers = [node.name for _, node in nodes(ast.FunctionDef)
+                  if any(isinstance(one, (ast.Yield, ast.YieldFrom)) for one in ast.walk(node))]
+        names = [node.name for _, node in nodes(ast.FunctionDef)]
+        for name in makers:
+            self.assertEqual(names.count(name), 1)
+        heads = [node.iter for _, node in nodes(ast.For)]
+        heads += [node.args[0] for _, node in nodes(ast.Call)
+                  if getattr(node.func, "id", "") in ("list", "tuple") and node.args]
+        for place, node in nodes(ast.Call):
+            if getattr(node.func, "id", "") in makers:
+                self.assertIn(node, heads, place)
+                self.assertTrue(all(isinstance(arg, (ast.Name, ast.Constant)) for arg in node.args), place)
+
+    def test_no_local_name_is_an_import_or_a_class(self):
+        for path, tree in trees():
+            taken = {alias.name for node in tree.body if isinstance(node, ast.ImportFrom) for alias in node.names}
+            taken |= {node.name for node in tree.body if isinstance(node, ast.ClassDef)}
+            for node in ast.walk(tree):
+                if isinstance(node, ast.FunctionDef):
+                    self.assertFalse(taken & set(local_names(node)), f"{path}:{node.lineno}")
+
+    def test_nothing_is_used_that_is_not_imported(self):
+        for path, tree in trees():
+            bound = {alias.name for node in tree.body if isinstance(node, ast.ImportFrom) for alias in node.names}
+            read = {node.id for node in ast.walk(tree) if isinstance(node, ast.Name)}
+            bases = {node.id for one in tree.body if isinstance(one, ast.ClassDef) for node in one.bases}
+            self.assertFalse(bound - read - bases, f"{path}: imported, but not used")
+
+    def test_each_name_is_bound_once(self):
+        for path, tree in trees():
+            names = [node.name for node in tree.body if isinstance(node, (ast.FunctionDef, ast.ClassDef))]
+            names += [node.targets[0].id for node in tree.body if isinstance(node, ast.Assign)]
+            names += [alias.name for node in tree.body if isinstance(node, ast.ImportFrom) for alias in node.names]
+            self.assertEqual(len(names), len(set(names)), path)
+
+    def test_views_and_ranges_are_iterated_at_once(self):
+        for place, node in nodes(ast.Assign, ast.Return):
+            value = node.value
+            if isinstance(value, ast.Call):
+                word = getattr(value.func, "id", getattr(value.func, "attr", ""))
+                self.assertNotIn(word, ("range", "zip", "enumerate", "reversed", "items", "keys", "values"), place)
 
     def test_barred_names(self):
         for place, node in nodes(ast.Name, ast.Attribute, ast.arg, ast.FunctionDef, ast.ClassDef):

@@ -69,7 +69,7 @@ def is_family(width, value):
     return _are_sets(width, value) and _least(value) == value
 
 
-def _contains(places, others):
+def contains(places, others):
     return all([place in places for place in others])
 
 
@@ -77,8 +77,9 @@ def _meet(places, others):
     return any([place in places for place in others])
 
 
-def _has_least(family, places):
-    return any([_contains(places, least) for least in family])
+def has_least(family, places):
+    """Whether the places contain a set of the family; for values that are known to be such."""
+    return any([contains(places, least) for least in family])
 
 
 def _least(sets):
@@ -86,7 +87,7 @@ def _least(sets):
     found = sorted(set(sets))
     return tuple([
         places for places in found
-        if not any([_contains(places, other) for other in found if other != places])
+        if not any([contains(places, other) for other in found if other != places])
     ])
 
 
@@ -110,7 +111,7 @@ def is_held(width, family, places):
     """Whether the places contain a set of the family."""
     check_family(width, family)
     check_places(width, places)
-    return _has_least(family, places)
+    return has_least(family, places)
 
 
 def rest_of(width, places):
@@ -140,7 +141,7 @@ def both(width, one, other):
     check_family(width, other)
     return _least([
         places for places in _all_sets(width)
-        if _has_least(one, places) and _has_least(other, places)
+        if has_least(one, places) and has_least(other, places)
     ])
 
 

@@ -1,0 +1,1 @@
+"""Rules and books of them."""

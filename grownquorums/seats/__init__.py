@@ -1,0 +1,1 @@
+"""Seats, and the sets of them."""
