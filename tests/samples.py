@@ -7,6 +7,7 @@ import random
 from grownquorums.books.books import Book
 from grownquorums.books.rules import Rule
 from grownquorums.errors import InvalidBook, InvalidNumber, UnknownName
+from grownquorums.seats.camps import Camp
 from tests import plain
 
 MAJ = Book.from_lines("width 3", "kind a of a a a least 01 02 12")
@@ -15,6 +16,9 @@ FREE = Book.from_lines(
     "width 3", "kind g of r g g least 01 02 12", "kind r of r r r least 0 1 2", "kind w of w w w least 012")
 ROWS = Book.from_lines("width 2", "kind o of o u least 0 1", "kind u of u u least 01")
 ODD = Book.from_lines("width 4", "kind b of b b b b least 01 23")
+
+EDGE = Camp.from_lines("width 3", "first p", "state p in of p p q", "state q out of q q q")
+FLIP = Camp.from_lines("width 3", "first p", "state p in of q q q", "state q out of p p p")
 
 LETTERS = "abcdefghijklmnopqrstuvwxyz"
 
@@ -98,8 +102,58 @@ def least_quorums(book, kind, order):
     return found
 
 
+def random_camp(width, many, seed):
+    """A camp with so many states, some of which may not be reached."""
+    chosen = random.Random(repr((width, many, seed, "camp")))
+    states = chosen.sample(LETTERS, many)
+    entries = {state: (chosen.random() < 0.5, tuple(chosen.choices(states, k=width))) for state in states}
+    return Camp(width, chosen.choice(states), entries)
+
+
+def camps(widths=plain.WIDTHS, sizes=(1, 2, 3, 5, 26), seeds=2):
+    """Camps of all these widths and numbers of states."""
+    return [random_camp(width, many, seed) for width in widths for many in sizes for seed in range(seeds)]
+
+
+def camp_seats(camp, order, state=None):
+    """A plain look at point 0.17: all seats of an order, ascending."""
+    is_in, row = camp.states[camp.first if state is None else state]
+    if order == 0:
+        return [()] if is_in else []
+    return [(place, *seat) for place, other in enumerate(row) for seat in camp_seats(camp, order - 1, other)]
+
+
+def groups(book, size):
+    """All groups of so many kinds."""
+    return list(itertools.combinations_with_replacement(book.kinds, size))
+
+
+def shared(rows):
+    """What all of the tuples have."""
+    return sorted(set(rows[0]).intersection(*rows[1:]))
+
+
+def below(book, group, place):
+    """The group below at a place."""
+    return tuple(sorted(book.rules[kind].row[place] for kind in group))
+
+
+def choices(book, group):
+    """All choices of a least set of each kind of a group, with the groups below at the places of all of them."""
+    return list(known_choices(book.lines, group))
+
+
+@functools.lru_cache(maxsize=None)
+def known_choices(lines, group):
+    book = Book.from_lines(*lines)
+    found = []
+    for sets in itertools.product(*[book.rules[kind].family for kind in group]):
+        found.append((sets, [below(book, group, place) for place in shared(sets)]))
+    return found
+
+
 # Wrong values, for whoever passes MAJ, its kind a, and orders up to 2.
-OBJECTS = (MAJ, TREE, FREE, MAJ["a"], InvalidNumber(3), InvalidBook("no book"), UnknownName("a"))
+OBJECTS = (MAJ, TREE, FREE, MAJ["a"], EDGE, InvalidNumber(3), InvalidBook("no book"), UnknownName("a"))
 NUMBERS = plain.FULL_INTEGERS + plain.LONG_INTEGERS + (True, False, -1, 0, 1, 3, 200, 201)
 VALUES = plain.PLAIN_VALUES + NUMBERS + OBJECTS + ("a", "t", "at", "01", "01 02", (0,), ((0, 1),), ("a", "a"))
 

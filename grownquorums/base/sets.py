@@ -31,7 +31,8 @@ def _is_place(width, value):
     return is_integer(value) and 0 <= value < width
 
 
-def _ascends(row):
+def ascends(row):
+    """Whether each value of a row is less than the next one."""
     return all([low < high for low, high in zip(row, row[1:])])
 
 
@@ -40,7 +41,7 @@ def _are_places(width, value):
     if not isinstance(value, tuple):
         return False
     # Places are judged ahead of their order, as values of other kinds may have none.
-    return all([_is_place(width, place) for place in value]) and _ascends(value)
+    return all([_is_place(width, place) for place in value]) and ascends(value)
 
 
 def _are_sets(width, value):
@@ -54,7 +55,7 @@ def _are_turns(width, value):
     """Whether the value is a tuple with each place once."""
     if not isinstance(value, tuple) or len(value) != width:
         return False
-    return all([_is_place(width, place) for place in value]) and _ascends(sorted(value))
+    return all([_is_place(width, place) for place in value]) and ascends(sorted(value))
 
 
 def is_set(width, value):

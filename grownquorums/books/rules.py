@@ -1,7 +1,8 @@
 """Rules: a row of kinds, and a family of the places in it."""
 
-from grownquorums.base.sets import blocks_of, check_places, contains, family_in, has_least, is_family, is_set
-from grownquorums.base.sets import placed, write_family
+from grownquorums.base.sets import (
+    blocks_of, check_places, contains, family_in, has_least, is_family, is_set, placed, write_family,
+)
 from grownquorums.base.words import is_count, is_letter
 from grownquorums.errors import InvalidNumber, InvalidOperation, InvalidRule, ParseError
 

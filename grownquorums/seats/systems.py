@@ -64,7 +64,6 @@ def crowd_holds(book, kind, order, crowd):
 def held_kinds(book, order, crowd):
     """The kinds that a crowd holds."""
     check_book(book)
-    check_order(order)
     check_crowd(book.width, order, crowd)
     return _levels(book, order, crowd)[order][0]
 

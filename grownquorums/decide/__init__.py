@@ -1,0 +1,1 @@
+"""What is decided for all orders at once."""

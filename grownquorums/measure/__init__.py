@@ -1,0 +1,1 @@
+"""Sizes and numbers of quorums."""
