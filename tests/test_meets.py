@@ -304,6 +304,16 @@ class Papers(unittest.TestCase):
         for value in samples.VALUES + (("meet",), ("meet", good, ()), ["meet", good], ("meet", None), ("split", ())):
             self.assertIs(is_meeting_paper(TREE, ("t", "t"), value), False)
 
+    def test_groups_of_another_size_stand_in_no_paper(self):
+        rows = (("s", "s"), ("s", "s", "s"), ("t", "t"))
+        self.assertIs(is_meeting_paper(TREE, ("t", "t"), ("meet", rows)), False)
+        self.assertIs(is_meeting_paper(TREE, ("s", "s", "s"), ("meet", rows)), False)
+        self.assertIs(is_meeting_paper(TREE, ("s", "s", "s"), ("meet", rows[1:2])), True)
+        entries = ((1, ("r", "r"), ((0,), (1,))), (1, ("r", "r", "r"), ((0,), (1,), (2,))))
+        for at, group in enumerate((("r", "r"), ("r", "r", "r"))):
+            self.assertIs(is_meeting_paper(FREE, group, ("split", entries)), False)
+            self.assertIs(is_meeting_paper(FREE, group, ("split", entries[at:at + 1])), True)
+
     def test_a_paper_for_one_group_is_one_for_others_in_it(self):
         paper = meeting_paper(LONG, ("f", "f"))
         for kind in "abcdef":

@@ -84,7 +84,7 @@ class Meetings:
 
     def __init__(self, book, size):
         check_book(book)
-        if not is_count(size) or size not in (2, 3):
+        if size not in (2, 3):
             raise InvalidNumber(size)
         self._book = book
         self._arity = size

@@ -6,7 +6,7 @@ from grownquorums.base.words import is_count
 from grownquorums.books.books import check_book, check_kind
 from grownquorums.errors import InvalidNumber, InvalidOperation, InvalidSeat, TooMany
 from grownquorums.seats.seats import check_few_seats, check_order, is_seat, split_crowd
-from grownquorums.seats.systems import is_least_quorum
+from grownquorums.seats.systems import is_least_quorum, product_at
 
 MAX_DIGITS = 400
 
@@ -21,16 +21,8 @@ def _check(book, kind, order):
 
 
 def _sum_at(rule, below, places):
-    """The sum of what the kinds at the places have."""
+    """The sum of what the kinds of the places have."""
     return sum([below[rule.row[place]] for place in places])
-
-
-def _product_at(rule, below, places):
-    """The product of what the kinds at the places have."""
-    found = 1
-    for place in places:
-        found = found * below[rule.row[place]]
-    return found
 
 
 def _least_sizes(book, order):
@@ -69,7 +61,7 @@ def _counts(book, order, most):
     for _ in range(order):
         # What is cut down stays as great, as no number that it is multiplied with is below 1.
         counts = {
-            kind: min(most, sum([_product_at(book[kind], counts, least) for least in book[kind]]))
+            kind: min(most, sum([product_at(book[kind], counts, least) for least in book[kind]]))
             for kind in book.kinds
         }
     return counts
@@ -108,7 +100,7 @@ def count_sizes(book, kind, order):
     packed = {other: 1 << bits for other in part.kinds}
     for _ in range(order):
         packed = {
-            other: sum([_product_at(part[other], packed, least) for least in part[other]]) for other in part.kinds
+            other: sum([product_at(part[other], packed, least) for least in part[other]]) for other in part.kinds
         }
     digits = _digits(packed[kind], bits, seats + 1)
     return {size: digit for size, digit in enumerate(digits) if digit > 0}

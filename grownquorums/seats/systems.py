@@ -120,17 +120,17 @@ def _counts(book, order):
     for _ in range(order):
         below = counts[-1]
         counts.append({
-            kind: sum([_count_row(book[kind], below, least) for least in book[kind].family]) for kind in book.kinds
+            kind: sum([product_at(book[kind], below, least) for least in book[kind].family]) for kind in book.kinds
         })
     return counts
 
 
-def _count_row(rule, below, places):
-    """How many rows of least quorums there are at these places."""
-    many = 1
+def product_at(rule, below, places):
+    """The product of what the kinds of the places have: of numbers of quorums, that of the rows of them."""
+    found = 1
     for place in places:
-        many = many * below[rule.row[place]]
-    return many
+        found = found * below[rule.row[place]]
+    return found
 
 
 def _each_at(book, counts, kind, order):
@@ -153,7 +153,7 @@ def _each_row(book, counts, rule, places, order):
         kind = rule.row[places[0]]
         start = places[0] * power(book.width, order)
         rest = places[1:]
-        is_short = _count_row(rule, counts[order], rest) <= _FEW
+        is_short = product_at(rule, counts[order], rest) <= _FEW
         tails = []
         if is_short:
             tails = list(_each_row(book, counts, rule, rest, order))
