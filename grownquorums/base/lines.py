@@ -1,4 +1,6 @@
-"""The line of a width, which books and camps have."""
+"""Lines of books and of camps."""
+
+from grownquorums.errors import ParseError
 
 _WIDTH_LINES = {"width 2": 2, "width 3": 3, "width 4": 4, "width 5": 5}
 
@@ -13,3 +15,14 @@ def width_in(line):
     if not isinstance(line, str):
         return None
     return _WIDTH_LINES.get(line)
+
+
+def entries_of(lines, entry_in):
+    """A dict of what the lines stand for, by a function that tells it of one line as a pair, or None."""
+    entries = {}
+    for index, line in enumerate(lines):
+        entry = entry_in(line)
+        if entry is None or entry[0] in entries:
+            raise ParseError(index)
+        entries[entry[0]] = entry[1]
+    return entries

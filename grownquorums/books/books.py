@@ -1,6 +1,6 @@
 """Books: rules for one to six kinds."""
 
-from grownquorums.base.lines import width_in, width_line
+from grownquorums.base.lines import entries_of, width_in, width_line
 from grownquorums.base.sets import check_width
 from grownquorums.base.words import is_letter
 from grownquorums.books.rules import Rule, rule_in
@@ -72,13 +72,7 @@ class Book:
     @classmethod
     def from_lines(cls, *lines):
         """The book with these lines, in any order."""
-        entries = {}
-        for index, line in enumerate(lines):
-            entry = _entry_in(line)
-            if entry is None or entry[0] in entries:
-                raise ParseError(index)
-            entries[entry[0]] = entry[1]
-        return _book_of(entries)
+        return _book_of(entries_of(lines, _entry_in))
 
     @property
     def width(self):

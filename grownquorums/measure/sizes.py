@@ -3,21 +3,15 @@
 from grownquorums.base.powers import power
 from grownquorums.base.sets import is_set
 from grownquorums.base.words import is_count
-from grownquorums.books.books import check_book, check_kind
+from grownquorums.books.books import check_book
 from grownquorums.errors import InvalidNumber, InvalidOperation, InvalidSeat, TooMany
 from grownquorums.seats.seats import check_few_seats, check_order, is_seat, split_crowd
-from grownquorums.seats.systems import is_least_quorum, product_at
+from grownquorums.seats.systems import check_asked, is_least_quorum, product_at
 
 MAX_DIGITS = 400
 
 # The least integer with more than MAX_DIGITS digits.
 _OUT_OF_REACH = (10 ** 50) ** 8
-
-
-def _check(book, kind, order):
-    check_book(book)
-    check_kind(book, kind)
-    check_order(order)
 
 
 def _sum_at(rule, below, places):
@@ -36,13 +30,13 @@ def _least_sizes(book, order):
 
 def least_size(book, kind, order):
     """The least size of a least quorum of a kind."""
-    _check(book, kind, order)
+    check_asked(book, kind, order)
     return _least_sizes(book, order)[order][kind]
 
 
 def greatest_size(book, kind, order):
     """The greatest size of a least quorum of a kind."""
-    _check(book, kind, order)
+    check_asked(book, kind, order)
     sizes = {other: 1 for other in book.kinds}
     for _ in range(order):
         sizes = {other: max([_sum_at(book[other], sizes, least) for least in book[other]]) for other in book.kinds}
@@ -51,7 +45,7 @@ def greatest_size(book, kind, order):
 
 def fewest_failures(book, kind, order):
     """The least size of a block of a kind."""
-    _check(book, kind, order)
+    check_asked(book, kind, order)
     return _least_sizes(book.dual(), order)[order][kind]
 
 
@@ -69,7 +63,7 @@ def _counts(book, order, most):
 
 def count_least(book, kind, order):
     """How many least quorums a kind has."""
-    _check(book, kind, order)
+    check_asked(book, kind, order)
     many = _counts(book.part(kind), order, _OUT_OF_REACH)[kind]
     if many >= _OUT_OF_REACH:
         raise TooMany(MAX_DIGITS)
@@ -88,7 +82,7 @@ def _digits(number, bits, many):
 
 def count_sizes(book, kind, order):
     """A dict from the sizes of the least quorums of a kind to how many have each."""
-    _check(book, kind, order)
+    check_asked(book, kind, order)
     check_few_seats(book.width, order)
     part = book.part(kind)
     seats = power(book.width, order)
@@ -144,7 +138,7 @@ def light_choice(book, order):
 
 
 def _check_choice(book, kind, order, choice):
-    _check(book, kind, order)
+    check_asked(book, kind, order)
     if not _are_all_picks(book, order, choice):
         raise InvalidOperation("no choice of this order")
 

@@ -1,11 +1,11 @@
 """Camps: sets of seats of every order, given by states."""
 
-from grownquorums.base.lines import width_in, width_line
+from grownquorums.base.lines import entries_of, width_in, width_line
 from grownquorums.base.sets import check_width
 from grownquorums.base.words import is_count, is_letter
 from grownquorums.books.books import check_book, check_kind
 from grownquorums.books.rules import is_row
-from grownquorums.errors import InvalidCamp, InvalidNumber, InvalidOperation, InvalidSeat, ParseError, TooMany
+from grownquorums.errors import InvalidCamp, InvalidNumber, InvalidOperation, InvalidSeat, TooMany
 from grownquorums.seats.seats import MAX_ORDER, are_any_places, check_order
 
 MAX_STATES = 26
@@ -135,12 +135,7 @@ class Camp:
     @classmethod
     def from_lines(cls, *lines):
         """The camp with these lines, in any order."""
-        entries = {}
-        for index, line in enumerate(lines):
-            entry = _entry_in(line)
-            if entry is None or entry[0] in entries:
-                raise ParseError(index)
-            entries[entry[0]] = entry[1]
+        entries = entries_of(lines, _entry_in)
         if _WIDTH not in entries or _FIRST not in entries:
             raise InvalidCamp("no line of the width or of the first state")
         states = {state: entries[state] for state in entries if state not in (_WIDTH, _FIRST)}

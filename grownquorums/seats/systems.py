@@ -14,7 +14,8 @@ _LACKS = "lacks"
 _FEW = 500
 
 
-def _check(book, kind, order):
+def check_asked(book, kind, order):
+    """Refuse what is no book, no kind of it, or no order."""
     check_book(book)
     check_kind(book, kind)
     check_order(order)
@@ -56,7 +57,7 @@ def _parts_at(book, levels, order, index):
 
 def crowd_holds(book, kind, order, crowd):
     """Whether a crowd holds a kind."""
-    _check(book, kind, order)
+    check_asked(book, kind, order)
     check_crowd(book.width, order, crowd)
     return kind in _levels(book, order, crowd)[order][0]
 
@@ -81,14 +82,14 @@ def _is_least(book, kind, order, crowd):
 
 def is_least_quorum(book, kind, order, value):
     """Whether the value is a crowd that is a least quorum of a kind."""
-    _check(book, kind, order)
+    check_asked(book, kind, order)
     check_few_seats(book.width, order)
     return are_numbers(value, power(book.width, order)) and _is_least(book, kind, order, value)
 
 
 def is_least_block(book, kind, order, value):
     """Whether the value is a crowd that is a block of a kind, without a smaller one in it."""
-    _check(book, kind, order)
+    check_asked(book, kind, order)
     return is_least_quorum(book.dual(), kind, order, value)
 
 
@@ -106,7 +107,7 @@ def _quorum_at(book, levels, kind, order, index):
 
 def least_quorum_in(book, kind, order, crowd):
     """A least quorum in a crowd."""
-    _check(book, kind, order)
+    check_asked(book, kind, order)
     check_crowd(book.width, order, crowd)
     levels = _levels(book, order, crowd)
     if kind not in levels[order][0]:
@@ -169,7 +170,7 @@ def _each_row(book, counts, rule, places, order):
 
 def each_least(book, kind, order):
     """All least quorums of a kind, each once, by the least sets, and then by the quorums at their places."""
-    _check(book, kind, order)
+    check_asked(book, kind, order)
     check_few_seats(book.width, order)
     counts = _counts(book, order)
     for quorum in _each_at(book, counts, kind, order):
@@ -178,7 +179,7 @@ def each_least(book, kind, order):
 
 def verdict(book, kind, order, crowd):
     """A least quorum in the crowd, or a least block among the other seats."""
-    _check(book, kind, order)
+    check_asked(book, kind, order)
     check_crowd(book.width, order, crowd)
     levels = _levels(book, order, crowd)
     if kind in levels[order][0]:
@@ -188,7 +189,7 @@ def verdict(book, kind, order, crowd):
 
 def is_verdict(book, kind, order, crowd, value):
     """Whether the value is a verdict."""
-    _check(book, kind, order)
+    check_asked(book, kind, order)
     check_crowd(book.width, order, crowd)
     if not isinstance(value, tuple) or len(value) != 2:
         return False
@@ -218,7 +219,7 @@ def _pivots_at(book, levels, kind, order, index):
 
 def pivots(book, kind, order, crowd):
     """The seats that alone change whether the crowd holds the kind."""
-    _check(book, kind, order)
+    check_asked(book, kind, order)
     check_crowd(book.width, order, crowd)
     return tuple(_pivots_at(book, _levels(book, order, crowd), kind, order, 0))
 
@@ -247,7 +248,7 @@ def _table(rule, below, size, many):
 
 def shares(book, kind, order):
     """A dict from the seats to how many crowds without the seat hold the kind only with it."""
-    _check(book, kind, order)
+    check_asked(book, kind, order)
     seats = power(book.width, order)
     if seats > _MAX_SHARERS:
         raise TooMany(_MAX_SHARERS)
