@@ -29,7 +29,7 @@ BARRED_NAMES = set(
     "Protocol ABC namedtuple abstractmethod dataclass".split())
 
 DOUBLE = set(
-    "__init__ __eq__ __str__ __len__ __iter__ __contains__ __getitem__".split())
+    "__init__ __eq__ __str__ __len__ __iter__ __contains__ __getitem__ __call__ __enter__ __exit__".split())
 
 BARRED_NODES = (
     ast.AsyncFunctionDef, ast.AsyncFor, ast.AsyncWith, ast.Await, ast.Import, ast.Global, ast.GeneratorExp, ast.Div,

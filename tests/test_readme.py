@@ -7,6 +7,9 @@ import unittest
 
 TEXT = (pathlib.Path(__file__).resolve().parent.parent / "README.md").read_text("utf-8")
 
+# Modules with helpers alone, of which the document tells nothing.
+HELPERS = ("lines", "powers", "ways", "tables", "tableaus")
+
 
 class Readme(unittest.TestCase):
     def test_what_is_told_behind_the_calls(self):
@@ -23,13 +26,13 @@ class Readme(unittest.TestCase):
                 found = eval(compile(ast.Expression(value), "README.md", "eval"), names)
                 self.assertTrue(told == repr(found) or told.startswith(repr(found) + ","), (told, found))
                 many += 1
-        self.assertGreater(many, 8)
+        self.assertGreater(many, 40)
 
     def test_each_module_is_named(self):
         package = pathlib.Path(__file__).resolve().parent.parent / "grownquorums"
         for path in package.rglob("*.py"):
             name = ".".join(path.relative_to(package.parent).with_suffix("").parts)
-            if not name.endswith("__init__") and name.rpartition(".")[2] not in ("lines", "powers", "ways"):
+            if not name.endswith("__init__") and name.rpartition(".")[2] not in HELPERS:
                 self.assertIn(f"| `{name}` |", TEXT)
 
 
