@@ -278,6 +278,80 @@ class Choices(unittest.TestCase):
                         self.assertEqual(
                             chosen_size(book, kind, lower, choice[:lower]), least_size(book, kind, lower))
 
+    def bent(self, choice, chosen):
+        """Choices of the same order with one pick, one dict or one place that is wrong."""
+        at = chosen.randrange(len(choice))
+        picks = choice[at]
+        kind = chosen.choice(list(picks))
+        least = picks[kind]
+        place = chosen.randrange(len(least))
+        news = [least[:place] + (other,) + least[place + 1:] for other in (None, 5, -1, str(least[place]), (least[place],))]
+        if least[place] < 2:
+            news.append(least[:place] + (least[place] == 1,) + least[place + 1:])
+        news += [list(least), least[::-1] if len(least) > 1 else (), least + least[-1:], None, "0", least[0], {0: least}, (least,)]
+        for new in news:
+            yield choice[:at] + ({**picks, kind: new},) + choice[at + 1:]
+        for new in ({**picks, "?": least}, {one: picks[one] for one in picks if one != kind}, {}, None, list(picks), picks[kind],
+                    {("x" if one == kind else one): picks[one] for one in picks}, tuple(picks.items())):
+            yield choice[:at] + (new,) + choice[at + 1:]
+        yield choice[:at] + choice[at + 1:]
+        yield choice + (picks,)
+        yield list(choice)
+
+    def test_choices_of_great_orders_that_are_bent_in_one_place(self):
+        chosen = random.Random(81)
+        for book in (FREE, TREE, ROWS, samples.random_book(5, 6, 1), samples.random_book(4, 1, 1)):
+            kind = book.kinds[-1]
+            for choice in (light_choice(book, 200), random_choice(book, 200, 4), random_choice(book, 1, 4)):
+                order = len(choice)
+                seat = chosen_seat(book, kind, order, choice, 0)
+                self.assertIs(is_choice(book, order, choice), True)
+                for _ in range(12):
+                    for value in self.bent(choice, chosen):
+                        self.assertIs(is_choice(book, order, value), False)
+                        for call in (lambda: chosen_size(book, kind, order, value),
+                                     lambda: is_chosen(book, kind, order, value, seat),
+                                     lambda: chosen_seat(book, kind, order, value, 0),
+                                     lambda: chosen_index(book, kind, order, value, seat)):
+                            self.assertRaises(InvalidOperation, call)
+
+    def test_other_tuples_and_dicts_of_the_same_picks_are_choices(self):
+        for book in (FREE, TREE, samples.random_book(5, 6, 1)):
+            choice = random_choice(book, 200, 5)
+            other = tuple({kind: tuple(int(str(place)) for place in picks[kind]) for kind in reversed(list(picks))}
+                          for picks in choice)
+            for kind in book:
+                size = chosen_size(book, kind, 200, choice)
+                self.assertEqual(chosen_size(book, kind, 200, other), size)
+                for index in (0, size // 2, size - 1):
+                    seat = chosen_seat(book, kind, 200, choice, index)
+                    self.assertEqual(chosen_seat(book, kind, 200, other, index), seat)
+                    self.assertEqual(chosen_index(book, kind, 200, other, seat), index)
+
+    def test_which_error_comes_first(self):
+        choice = light_choice(FREE, 200)
+        wrong = choice[:100] + ({**choice[100], "g": (0, True)},) + choice[101:]
+        for value in (wrong, None, choice[1:]):
+            self.assertRaises(InvalidOperation, is_chosen, FREE, "w", 200, value, None)
+            self.assertRaises(InvalidOperation, chosen_index, FREE, "w", 200, value, None)
+            self.assertRaises(InvalidOperation, chosen_seat, FREE, "w", 200, value, None)
+        self.assertRaises(InvalidSeat, chosen_index, FREE, "r", 200, choice, (0,) * 199)
+        self.assertRaises(InvalidSeat, chosen_index, FREE, "r", 200, choice, (0,) * 199 + (True,))
+        self.assertRaises(InvalidSeat, chosen_index, FREE, "r", 200, choice, (1,) * 200)
+        self.assertIs(is_chosen(FREE, "r", 200, choice, (1,) * 200), False)
+        self.assertRaises(InvalidNumber, chosen_seat, FREE, "r", 200, choice, 1)
+
+    def test_a_walk_through_the_seats_of_a_named_quorum(self):
+        choice = light_choice(FREE, 200)
+        size = least_size(FREE, "g", 200)
+        start = time.process_time()
+        for index in range(1000):
+            seat = chosen_seat(FREE, "w", 200, choice, index)
+            self.assertIs(is_chosen(FREE, "w", 200, choice, seat), True)
+            self.assertEqual(chosen_index(FREE, "w", 200, choice, seat), index)
+            self.assertEqual(chosen_size(FREE, "g", 200, choice), size)
+        self.assertLess(time.process_time() - start, 2)
+
     def test_values_near_a_choice(self):
         good = PICKS[0]
         bad = ({}, {"s": (0,)}, {"t": (0, 1)}, {"s": (0,), "t": (0, 1), "u": (0,)}, {"s": (0,), "u": (0, 1)},

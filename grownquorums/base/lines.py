@@ -1,7 +1,9 @@
-"""Lines of books and of camps."""
+"""Lines of books and of camps, and words in lines."""
 
+from grownquorums.base.words import MAX_FIGURES
 from grownquorums.errors import ParseError
 
+_FIGURES = "0123456789"
 _WIDTH_LINES = {"width 2": 2, "width 3": 3, "width 4": 4, "width 5": 5}
 
 
@@ -26,3 +28,13 @@ def entries_of(lines, entry_in):
             raise ParseError(index)
         entries[entry[0]] = entry[1]
     return entries
+
+
+def count_in(word):
+    """The integer that a word of figures without leading zeros stands for, None if the word is none.
+
+    With more figures than integers can have it is -1, which like these is refused wherever a number is asked for.
+    """
+    if word == "" or not all([sign in _FIGURES for sign in word]) or word[0] == "0" and word != "0":
+        return None
+    return int(word) if len(word) <= MAX_FIGURES else -1

@@ -51,7 +51,7 @@ def _are_sets(width, value):
     return all([_are_places(width, places) and places != () for places in value])
 
 
-def _are_turns(width, value):
+def are_turns(width, value):
     """Whether the value is a tuple with each place once."""
     if not isinstance(value, tuple) or len(value) != width:
         return False
@@ -149,7 +149,7 @@ def both(width, one, other):
 def placed(width, family, turns):
     """The family in which each place p has become turns[p]."""
     check_family(width, family)
-    if not _are_turns(width, turns):
+    if not are_turns(width, turns):
         raise InvalidOperation("no tuple with each place once")
     return tuple(sorted([tuple(sorted([turns[place] for place in least])) for least in family]))
 

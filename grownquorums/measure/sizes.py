@@ -1,7 +1,6 @@
 """Sizes and numbers of least quorums, and choices that name some of them."""
 
 from grownquorums.base.powers import power
-from grownquorums.base.sets import is_set
 from grownquorums.base.words import is_count
 from grownquorums.books.books import check_book
 from grownquorums.errors import InvalidNumber, InvalidOperation, InvalidSeat, TooMany
@@ -100,21 +99,23 @@ def count_sizes(book, kind, order):
     return {size: digit for size, digit in enumerate(digits) if digit > 0}
 
 
-def _are_picks(book, value):
-    """Whether the value is a dict from all kinds of the book to one of their least sets."""
-    if not isinstance(value, dict) or len(value) != len(book):
+def _are_least_sets(family, values):
+    """Whether all of the values are sets of the family."""
+    if not all([value in family for value in values]):
         return False
-    for kind in book.kinds:
-        least = value.get(kind)
-        if not is_set(book.width, least) or least not in book[kind].family:
-            return False
-    return True
+    # What is equal to a tuple of places can still have True and False in it.
+    return not [place for value in values for place in value if place is True or place is False]
 
 
 def _are_all_picks(book, order, value):
+    """Whether the value is a tuple of so many dicts, each from all kinds of the book to one of their least sets."""
     if not isinstance(value, tuple) or len(value) != order:
         return False
-    return all([_are_picks(book, picks) for picks in value])
+    many = len(book)
+    if not all([isinstance(picks, dict) and len(picks) == many for picks in value]):
+        return False
+    # All picks of one kind are judged at once, as there may be hundreds of them.
+    return all([_are_least_sets(book[kind].family, [picks.get(kind) for picks in value]) for kind in book.kinds])
 
 
 def is_choice(book, order, value):
@@ -148,46 +149,56 @@ def _check_seat(book, order, seat):
         raise InvalidSeat("no seat of this order")
 
 
-def _chosen_sizes(book, choice):
-    """For each order up to that of the choice, a dict from the kinds to the sizes of the named quorums."""
-    sizes = [{kind: 1 for kind in book.kinds}]
+def _rows_of(book, kind):
+    """A dict from the kinds on which this one depends to their rows."""
+    return {other: book[other].row for other in book.needed(kind)}
+
+
+def _chosen_sizes(rows, choice):
+    """For each order up to that of the choice, a dict from the kinds of the rows to the sizes of the named quorums."""
+    below = {kind: 1 for kind in rows}
+    sizes = [below]
     for picks in choice:
-        below = sizes[-1]
-        sizes.append({kind: _sum_at(book[kind], below, picks[kind]) for kind in book.kinds})
+        above = {}
+        for kind, row in rows.items():
+            size = 0
+            for place in picks[kind]:
+                size = size + below[row[place]]
+            above[kind] = size
+        sizes.append(above)
+        below = above
     return sizes
 
 
 def chosen_size(book, kind, order, choice):
     """The size of the quorum of a kind that a choice names."""
     _check_choice(book, kind, order, choice)
-    return _chosen_sizes(book, choice)[order][kind]
-
-
-def _is_chosen(book, kind, choice, seat):
-    for picks, place in zip(choice[::-1], seat):
-        if place not in picks[kind]:
-            return False
-        kind = book[kind].row[place]
-    return True
+    return _chosen_sizes(_rows_of(book, kind), choice)[order][kind]
 
 
 def is_chosen(book, kind, order, choice, seat):
     """Whether a seat is in the quorum of a kind that a choice names."""
     _check_choice(book, kind, order, choice)
     _check_seat(book, order, seat)
-    return _is_chosen(book, kind, choice, seat)
+    rows = _rows_of(book, kind)
+    for picks, place in zip(choice[::-1], seat):
+        if place not in picks[kind]:
+            return False
+        kind = rows[kind][place]
+    return True
 
 
 def chosen_seat(book, kind, order, choice, index):
     """The seat with an index among the seats of the quorum that a choice names."""
     _check_choice(book, kind, order, choice)
-    sizes = _chosen_sizes(book, choice)
+    rows = _rows_of(book, kind)
+    sizes = _chosen_sizes(rows, choice)
     if not is_count(index) or index >= sizes[order][kind]:
         raise InvalidNumber(index)
     seat = []
     left = index
     for picks, below in zip(choice[::-1], sizes[:order][::-1]):
-        row = book[kind].row
+        row = rows[kind]
         places = picks[kind]
         at = 0
         while left >= below[row[places[at]]]:
@@ -202,14 +213,16 @@ def chosen_index(book, kind, order, choice, seat):
     """The index of a seat among the seats of the quorum that a choice names."""
     _check_choice(book, kind, order, choice)
     _check_seat(book, order, seat)
-    if not _is_chosen(book, kind, choice, seat):
-        raise InvalidSeat("the seat is not in the quorum")
+    rows = _rows_of(book, kind)
     index = 0
-    sizes = _chosen_sizes(book, choice)[:order]
-    for picks, below, place in zip(choice[::-1], sizes[::-1], seat):
-        rule = book[kind]
-        index = index + _sum_at(rule, below, [other for other in picks[kind] if other < place])
-        kind = rule.row[place]
+    for picks, below, place in zip(choice[::-1], _chosen_sizes(rows, choice)[:order][::-1], seat):
+        if place not in picks[kind]:
+            raise InvalidSeat("the seat is not in the quorum")
+        row = rows[kind]
+        for other in picks[kind]:
+            if other < place:
+                index = index + below[row[other]]
+        kind = row[place]
     return index
 
 

@@ -248,11 +248,16 @@ class Camp:
         return f"camp of width {self._width}, {len(self._states)} states"
 
 
+def check_camp(book, camp):
+    """Refuse what is no camp of the width of the book."""
+    if not isinstance(camp, Camp) or camp.width != book.width:
+        raise InvalidCamp("no camp of the width of the book")
+
+
 def _check(book, kind, camp):
     check_book(book)
     check_kind(book, kind)
-    if not isinstance(camp, Camp) or camp.width != book.width:
-        raise InvalidCamp("no camp of the width of the book")
+    check_camp(book, camp)
 
 
 def _first_bits(states, pairs):

@@ -33,7 +33,8 @@ def are_any_places(width, value):
     """Whether the value is a tuple of places, in any order and repeats let."""
     if not isinstance(value, tuple):
         return False
-    return all([is_count(place) and place < width for place in value])
+    places = tuple(range(width))
+    return all([place in places and place is not True and place is not False for place in value])
 
 
 def are_numbers(value, below):

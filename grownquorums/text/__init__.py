@@ -1,0 +1,1 @@
+"""Texts of books, camps and papers, and a shell."""

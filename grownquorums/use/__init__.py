@@ -1,0 +1,1 @@
+"""Changed books, and councils."""
