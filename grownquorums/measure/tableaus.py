@@ -30,16 +30,16 @@ def amounts(tableau, bounds):
 def _leaving(tableau, bounds, column):
     """The index of the row that bounds what can be had of a column; of several, that of the least of the basis."""
     _, basis, rows = tableau
-    found = None
-    for at, many in enumerate(amounts(tableau, bounds)):
-        entry = rows[at][column]
-        if entry > 0:
-            if found is None:
-                found = (many, entry, at)
-            turn = many * found[1] - found[0] * entry
-            if turn < 0 or turn == 0 and basis[at] < basis[found[2]]:
-                found = (many, entry, at)
-    return found[2]
+    bounding = [
+        (many, rows[at][column], basis[at], at) for at, many in enumerate(amounts(tableau, bounds))
+        if rows[at][column] > 0
+    ]
+    found = bounding[0]
+    for row in bounding[1:]:
+        turn = row[0] * found[1] - found[0] * row[1]
+        if turn < 0 or turn == 0 and row[2] < found[2]:
+            found = row
+    return found[3]
 
 
 def _pivoted(tableau, at, column):
